@@ -1,0 +1,1 @@
+"""Shareparley: who earns what by standing together."""

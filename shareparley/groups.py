@@ -1,0 +1,34 @@
+"""Groups of hands as whole numbers: 1 for hand 0, 2 for hand 1, 4 for hand 2, and so on, added."""
+
+from shareparley.checks import is_number_within
+from shareparley.errors import NoGroup
+
+# For each hand, at the place that is its number, the group of it alone.
+ALONE = (1, 2, 4, 8, 16, 32)
+GREATEST_GROUP = 63
+
+
+def check_group(group):
+    if not is_number_within(group, 0, GREATEST_GROUP):
+        raise NoGroup("a group must be a whole number from 0 to 63")
+
+
+def hands_of(group):
+    check_group(group)
+    return [hand for hand in range(len(ALONE)) if group & ALONE[hand] != 0]
+
+
+def parts_of(group):
+    check_group(group)
+    return [part for part in range(group + 1) if part & group == part]
+
+
+def group_of(hands):
+    group = 0
+    for hand in hands:
+        if not is_number_within(hand, 0, len(ALONE) - 1):
+            raise NoGroup("a hand must be a whole number from 0 to 5")
+        if group & ALONE[hand] != 0:
+            raise NoGroup("a hand stands in the list twice")
+        group += ALONE[hand]
+    return group
