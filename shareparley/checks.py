@@ -1,4 +1,6 @@
-"""Whether a thing is a number, asked wherever whatever thing may be handed in."""
+"""What is asked wherever whatever thing may be handed in: whether it is a number, and of how many hands."""
+
+from shareparley.errors import NoRule
 
 
 def is_number(thing):
@@ -8,3 +10,8 @@ def is_number(thing):
 
 def is_number_within(thing, least, most):
     return is_number(thing) and least <= thing <= most
+
+
+def check_many(many):
+    if not is_number_within(many, 1, 6):
+        raise NoRule("there must be one to six hands")

@@ -5,21 +5,24 @@ from shareparley.errors import NoGroup
 
 # For each hand, at the place that is its number, the group of it alone.
 ALONE = (1, 2, 4, 8, 16, 32)
-GREATEST_GROUP = 63
 
 
-def check_group(group):
-    if not is_number_within(group, 0, GREATEST_GROUP):
-        raise NoGroup("a group must be a whole number from 0 to 63")
+def whole_company(many):
+    return sum(ALONE[:many])
+
+
+def check_group(group, many):
+    if not is_number_within(group, 0, whole_company(many)):
+        raise NoGroup("a group must be a whole number from 0 to the whole company's")
 
 
 def hands_of(group):
-    check_group(group)
+    check_group(group, len(ALONE))
     return [hand for hand in range(len(ALONE)) if group & ALONE[hand] != 0]
 
 
 def parts_of(group):
-    check_group(group)
+    check_group(group, len(ALONE))
     return [part for part in range(group + 1) if part & group == part]
 
 

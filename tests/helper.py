@@ -1,9 +1,12 @@
-"""What several tests need: the refusals, things that are no numbers, and how a refusal is seen."""
+"""What several tests need: the refusals, numbers and things that are none, and how a refusal is seen."""
+
+from itertools import combinations
 
 from shareparley import errors
 
 REFUSALS = ["NoNumber", "NoGroup", "NoRule", "NoText", "NoTable", "Unlike", "TooMany", "NoOrder",
             "NoRows", "NoShares", "NoVotes"]
+SIXTY_NINES = 10 ** 60 - 1
 
 
 class Stranger:
@@ -35,3 +38,77 @@ def see_refused(case, name, call, *handed):
             case.assertEqual(isinstance(error, getattr(errors, refusal)), refusal == name, refusal)
     else:
         case.fail(f"not refused with {name}")
+
+
+def see_groups_refused(case, call, many):
+    """The call wants a group of a company of so many hands, and refuses whatever is none."""
+    for thing in no_numbers() + [-1, -2, 2 ** many, 2 ** many + 1, 64, 1000, -SIXTY_NINES, SIXTY_NINES]:
+        see_refused(case, "NoGroup", call, thing)
+
+
+def members(group, many):
+    """The hands of a group, found by halving it."""
+    return [hand for hand in range(many) if group // 2 ** hand % 2 == 1]
+
+
+def all_pairs(many):
+    return list(combinations(range(many), 2))
+
+
+def some_number(source):
+    """A number of each sign, small or great, up to sixty figures."""
+    bound = source.choice([1, 9, 1000, 10 ** 30, SIXTY_NINES])
+    return source.choice([source.randint(-bound, bound), source.randint(-9, 9), bound, -bound, 0])
+
+
+def some_cost(source):
+    return abs(some_number(source))
+
+
+def some_numbers(source, long):
+    return [some_number(source) for place in range(long)]
+
+
+def some_pairs(source, many, maker=some_number):
+    """Some pairs of hands in any order, each with a number."""
+    chosen = all_pairs(many)
+    source.shuffle(chosen)
+    many_chosen = source.choice([0, len(chosen), source.randint(0, len(chosen))])
+    return [(one, other, maker(source)) for one, other in chosen[:many_chosen]]
+
+
+def some_table(source, many):
+    return [0] + some_numbers(source, 2 ** many - 1)
+
+
+def wrong_pairs(many):
+    """Lists of pairs, each with something in it that is not as it should be for so many hands."""
+    wrong = [[(-1, 0, 5)], [(-2, -1, 5)], [(-1, 1, 5)], [(0, 0, 5)], [(0, many, 5)], [(0, many + 1, 5)],
+             [(many, many + 1, 5)], [(0, SIXTY_NINES, 5)], [(-SIXTY_NINES, 0, 5)],
+             [()], [(0,)], [(0, 1)], [(0, 1, 5, 6)], [(0, 1, 5, 0, 1, 5)], [(5,) * 1000]]
+    for thing in no_numbers():
+        wrong += [[(thing, 1, 5)], [(0, thing, 5)], [(0, 1, thing)], [(thing, thing, thing)], [(0, 1, 5, thing)],
+                  [(thing,)], [(thing, thing)]]
+    for one, other in all_pairs(many):
+        wrong += [[(other, one, 5)], [(one, other, 5), (one, other, 5)], [(one, other, 5), (one, other, 6)]]
+    if many > 1:
+        wrong += [[(0, 1, 5)] + fault for fault in wrong] + [fault + [(0, 1, 5)] for fault in wrong]
+        wrong += [[(one, other, 0) for one, other in all_pairs(many)] + [(0, 1, 9)], [(0, 1, 5)] * 1000]
+    if many > 2:
+        wrong += [[(0, 1, 5), (0, 2, 5), (0, 1, 6)]]
+    return wrong
+
+
+def frozen(thing):
+    """A copy of lists and tuples that can be held against them later."""
+    if isinstance(thing, (list, tuple)):
+        return (type(thing).__name__, [frozen(within) for within in thing])
+    return thing
+
+
+def spoil(told):
+    """What an asker may do to a list of his own."""
+    told.reverse()
+    told.append("spoiled")
+    if len(told) > 1:
+        told[0] = None

@@ -77,6 +77,9 @@ def node_faults(node):
         return ["L7 value"]
     if isinstance(node, ast.Constant) and isinstance(node.value, str) and "%" in node.value:
         return ["L27 %"]
+    if isinstance(node, ast.FormattedValue):
+        if not isinstance(node.value, ast.Name) or node.format_spec or node.conversion not in (-1, ord("r")):
+            return ["L7 braces"]
     if isinstance(node, ast.Assign) and len(node.targets) != 1:
         return ["L6 targets"]
     if isinstance(node, (ast.For, ast.While)) and node.orelse or isinstance(node, ast.Try) and node.finalbody:
@@ -214,7 +217,9 @@ class TestTheReading(unittest.TestCase):
                      "def f(x):\n    return type(x)\n", "def f(x):\n    x.sort()\n", "# caf\u00e9\n", "def f():\n\tpass\n",
                      "def f(sum):\n    return sum\n", "def f():\n    return {n for n in (1, 2)}\n", "f()\n",
                      "class A:\n    x = 1\n", "def _f():\n    pass\n", "def f():\n" + "    pass\n" * 40,
-                     "x = 1 #" + "x" * 120 + "\n", "def f(x):\n    x = y = 1\n", "def f(x):\n    return hash(x)\n"]:
+                     "x = 1 #" + "x" * 120 + "\n", "def f(x):\n    x = y = 1\n", "def f(x):\n    return hash(x)\n",
+                     "def f(x):\n    return f'{x.y}'\n", "def f(x):\n    return f'{x:3}'\n",
+                     "def f(x):\n    return f'{x!s}'\n"]:
             with self.subTest(text=text):
                 self.assertNotEqual(text_faults(text), [])
 
