@@ -1,6 +1,8 @@
 """What several tests need: the refusals, numbers and things that are none, and how a refusal is seen."""
 
+from copy import deepcopy
 from itertools import combinations
+from random import Random
 
 from shareparley import errors
 
@@ -97,6 +99,84 @@ def wrong_pairs(many):
     if many > 2:
         wrong += [[(0, 1, 5), (0, 2, 5), (0, 1, 6)]]
     return wrong
+
+
+def no_tables():
+    """Lists that are no tables: of another length, with another number first, with a thing that is no number."""
+    found = [[0] * long for long in range(130) if long not in (2, 4, 8, 16, 32, 64)] + [[0] * 100000]
+    for many in range(1, 7):
+        long = 2 ** many
+        found += [[first] + [0] * (long - 1) for first in (1, -1, SIXTY_NINES, -SIXTY_NINES)]
+        for thing in no_numbers():
+            found += [[thing] + [0] * (long - 1), [0] * (long - 1) + [thing], [thing] * long]
+        for place in range(long):
+            found += [[0] * place + [thing] + [0] * (long - 1 - place) for thing in (True, False, None, Stranger())]
+    return found
+
+
+def see_tables_refused(case, call):
+    """The call wants a table, and refuses whatever list is none."""
+    for table in no_tables():
+        long = len(table)
+        see_refused(case, "NoTable", call, table)
+        case.assertEqual(len(table), long)
+
+
+def small_table(source, many, bound):
+    """A table of small numbers, in which the same ones come often."""
+    return [0] + [source.randint(-bound, bound) for place in range(2 ** many - 1)]
+
+
+def some_tables(seed, each=6):
+    """Tables of one to six hands: noughts, small numbers, great numbers."""
+    source = Random(seed)
+    found = []
+    for many in range(1, 7):
+        found += [[0] * 2 ** many, list(range(2 ** many)), [0] + [SIXTY_NINES] * (2 ** many - 1)]
+        for turn in range(each):
+            found += [some_table(source, many), small_table(source, many, 1), small_table(source, many, 9)]
+    return found
+
+
+def hands_within(table):
+    """How many hands a table is of, found by halving its length."""
+    return len(bin(len(table))) - 3
+
+
+def by_hands(table):
+    """What each set of hands earns."""
+    many = hands_within(table)
+    return {frozenset(members(group, many)): table[group] for group in range(2 ** many)}
+
+
+def table_by(many, earn):
+    """The table in which each group earns what earn tells of the set of its hands."""
+    return [earn(frozenset(members(group, many))) for group in range(2 ** many)]
+
+
+def see_numbers(case, told, long):
+    """It is a list of so many whole numbers."""
+    case.assertIs(type(told), list)
+    case.assertEqual([type(number) for number in told], [int] * long)
+
+
+def see_apart(case, call, *handed):
+    """What is handed in stays, and no list that was handed in or told and is then changed changes an answer."""
+    before = deepcopy(handed)
+    first = call(*handed)
+    wanted = deepcopy(first)
+    case.assertEqual(frozen(handed), frozen(before))
+    second = call(*handed)
+    if isinstance(first, list):
+        spoil(first)
+    case.assertEqual(frozen(handed), frozen(before))
+    case.assertEqual(frozen(second), frozen(wanted))
+    case.assertEqual(frozen(call(*handed)), frozen(wanted))
+    for thing in handed:
+        if isinstance(thing, list):
+            spoil(thing)
+    case.assertEqual(frozen(second), frozen(wanted))
+    case.assertEqual(frozen(call(*before)), frozen(wanted))
 
 
 def frozen(thing):

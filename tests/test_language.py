@@ -28,6 +28,12 @@ Attribute Subscript Name List Tuple Slice Load Store And Or Add Sub Mult Mod Pow
 FloorDiv Invert Not UAdd USub Eq NotEq Lt LtE Gt GtE Is IsNot In NotIn comprehension ExceptHandler arguments arg
 keyword alias""".split()
 
+WALKED = ["zip", "enumerate", "reversed", "range", "items", "keys", "values"]
+WALKERS = ["list", "tuple", "dict", "sorted", "sum", "any", "all", "enumerate", "zip", "min", "max", "join"]
+KEYWORDS = {name: [] for name in OWN_NAMES} | {"sorted": ["key", "reverse"], "min": ["key", "default"],
+                                               "max": ["key", "default"], "sum": ["start"], "enumerate": ["start"],
+                                               "zip": ["strict"]}
+
 
 def form_faults(text):
     """L10, L14, L17: lengths, signs and words."""
@@ -129,6 +135,37 @@ def top_faults(tree):
     return faults + [f"L15 {name}" for name in sorted(set(names)) if names.count(name) > 1]
 
 
+def shadow_faults(tree):
+    """L15: no parameter and no local is called like a class or an import of its file."""
+    taken = [node.name for node in tree.body if isinstance(node, ast.ClassDef)]
+    taken += [alias.name for node in tree.body if isinstance(node, ast.ImportFrom) for alias in node.names]
+    names = [node.arg for node in ast.walk(tree) if isinstance(node, ast.arg)]
+    names += [node.id for node in ast.walk(tree) if isinstance(node, ast.Name) and isinstance(node.ctx, ast.Store)]
+    return [f"L15 {name}" for name in names if name in taken]
+
+
+def name_called(node):
+    """The name by which something is called, of Python's own names and methods."""
+    if not isinstance(node, ast.Call):
+        return None
+    return getattr(node.func, "id", None) or getattr(node.func, "attr", None)
+
+
+def walk_faults(tree):
+    """L22, L23: keywords of Python's own, and what is walked on the spot."""
+    on_the_spot = []
+    faults = []
+    for node in ast.walk(tree):
+        if isinstance(node, (ast.For, ast.comprehension)):
+            on_the_spot.append(node.iter)
+        if name_called(node) in WALKERS:
+            on_the_spot += node.args if name_called(node) == "zip" else node.args[:1]
+        if name_called(node) in KEYWORDS and isinstance(node.func, ast.Name):
+            faults += [f"L22 {word.arg}" for word in node.keywords if word.arg not in KEYWORDS[name_called(node)]]
+    return faults + [f"L23 row {node.lineno}" for node in ast.walk(tree)
+                     if name_called(node) in WALKED and node not in on_the_spot]
+
+
 def method_faults(trees):
     """L18, L25: the methods that are called are Python's own few or the package's."""
     own = [row.name for tree in trees for node in ast.walk(tree) if isinstance(node, ast.ClassDef)
@@ -144,7 +181,7 @@ def method_faults(trees):
 def text_faults(text):
     """All faults of one file."""
     tree = ast.parse(text)
-    faults = form_faults(text) + name_faults(tree) + top_faults(tree)
+    faults = form_faults(text) + name_faults(tree) + top_faults(tree) + shadow_faults(tree) + walk_faults(tree)
     for node in ast.walk(tree):
         faults += node_faults(node) + def_faults(node)
     return faults + method_faults([tree])
@@ -214,12 +251,16 @@ class TestTheReading(unittest.TestCase):
     def test_faults_are_seen(self):
         for text in ["x = 1.5\n", "x = 1 / 2\n", "import os\n", "x = [1]\nx = [2]\n", "def f(*a):\n    pass\n",
                      "def f(x):\n    del x\n", "def f(x):\n    return x is 1\n", "def f(n):\n    return 2 ** n\n",
-                     "def f(x):\n    return type(x)\n", "def f(x):\n    x.sort()\n", "# caf\u00e9\n", "def f():\n\tpass\n",
+                     "def f(x):\n    return type(x)\n", "def f(x):\n    x.sort()\n", "# caf\u00e9\n",
+                     "def f():\n\tpass\n",
                      "def f(sum):\n    return sum\n", "def f():\n    return {n for n in (1, 2)}\n", "f()\n",
                      "class A:\n    x = 1\n", "def _f():\n    pass\n", "def f():\n" + "    pass\n" * 40,
                      "x = 1 #" + "x" * 120 + "\n", "def f(x):\n    x = y = 1\n", "def f(x):\n    return hash(x)\n",
                      "def f(x):\n    return f'{x.y}'\n", "def f(x):\n    return f'{x:3}'\n",
-                     "def f(x):\n    return f'{x!s}'\n"]:
+                     "def f(x):\n    return f'{x!s}'\n", "class A:\n    pass\n\n\ndef f(A):\n    return A\n",
+                     "from shareparley.groups import cut\n\n\ndef f():\n    cut = 1\n    return cut\n",
+                     "def f(x):\n    y = zip(x, x)\n    return y\n", "def f(x):\n    return x.items()\n",
+                     "def f(x):\n    return int(x, base=2)\n", "def f(x):\n    return range(3)[x]\n"]:
             with self.subTest(text=text):
                 self.assertNotEqual(text_faults(text), [])
 

@@ -109,7 +109,8 @@ class TestPairs(RuleCase):
     def test_words_are_sorted_by_hands(self):
         pairs = [(4, 5, -1), (1, 3, 9), (0, 5, 0), (1, 2, 10), (0, 1, SIXTY_NINES), (0, 2, -SIXTY_NINES)]
         words = "pairs 0-1:" + "9" * 60 + " 0-2:-" + "9" * 60 + " 0-5:0 1-2:10 1-3:9 4-5:-1"
-        for turned in (pairs, pairs[::-1], sorted(pairs), sorted(pairs, key=lambda pair: pair[2]), pairs[3:] + pairs[:3]):
+        for turned in (pairs, pairs[::-1], sorted(pairs), sorted(pairs, key=lambda pair: pair[2]),
+                       pairs[3:] + pairs[:3]):
             with self.subTest(pairs=turned):
                 self.assertEqual(Pairs(6, turned).words(), words)
 

@@ -1,6 +1,6 @@
 import unittest
 
-from helper import SIXTY_NINES, Stranger, no_numbers, see_refused
+from helper import SIXTY_NINES, no_numbers, no_tables, see_refused
 from shareparley.tables import hands_in, is_table
 
 
@@ -11,18 +11,6 @@ def tables():
         long = 2 ** many
         found += [(many, [0] * long), (many, list(range(long))), (many, [0] + [-SIXTY_NINES] * (long - 1)),
                   (many, [0] + [SIXTY_NINES] * (long - 1)), (many, [-place for place in range(long)])]
-    return found
-
-
-def no_tables():
-    found = [[0] * long for long in range(130) if long not in (2, 4, 8, 16, 32, 64)] + [[0] * 100000]
-    for many in range(1, 7):
-        long = 2 ** many
-        found += [[first] + [0] * (long - 1) for first in (1, -1, SIXTY_NINES, -SIXTY_NINES)]
-        for thing in no_numbers():
-            found += [[thing] + [0] * (long - 1), [0] * (long - 1) + [thing], [thing] * long]
-        for place in range(long):
-            found += [[0] * place + [thing] + [0] * (long - 1 - place) for thing in (True, False, None, Stranger())]
     return found
 
 
