@@ -57,3 +57,16 @@ def parted(one, other):
 def under(one, other):
     # Both bottoms are above 0, so multiplying by them keeps the order.
     return one[0] * other[1] < other[0] * one[1]
+
+
+def common_bottom(fractions):
+    """The least number that the bottom of each of the fractions goes into evenly."""
+    common = 1
+    for one in fractions:
+        common = common * (one[1] // greatest_divisor(common, one[1]))
+    return common
+
+
+def tops_over(bottom, fractions):
+    """What each of the fractions has for its top when it stands over a bottom that its own goes into evenly."""
+    return [one[0] * (bottom // one[1]) for one in fractions]

@@ -21,6 +21,11 @@ def hands_of(group):
     return [hand for hand in range(len(ALONE)) if group & ALONE[hand] != 0]
 
 
+def marks_of(group, many):
+    """For each of so many hands 1 where it is in the group, else 0."""
+    return [1 if group & ALONE[hand] != 0 else 0 for hand in range(many)]
+
+
 def parts_of(group):
     check_group(group, len(ALONE))
     return [part for part in range(group + 1) if part & group == part]

@@ -1,7 +1,11 @@
 """What several tests need: the refusals, numbers and things that are none, and how a refusal is seen."""
 
+import signal
+import unittest
 from copy import deepcopy
+from fractions import Fraction
 from itertools import combinations
+from math import gcd
 from random import Random
 
 from shareparley import errors
@@ -9,6 +13,24 @@ from shareparley import errors
 REFUSALS = ["NoNumber", "NoGroup", "NoRule", "NoText", "NoTable", "Unlike", "TooMany", "NoOrder",
             "NoRows", "NoShares", "NoVotes"]
 SIXTY_NINES = 10 ** 60 - 1
+
+
+class EndingCase(unittest.TestCase):
+    """Tests that fail, and do not run on, where the program goes round and round."""
+
+    SECONDS = 120
+
+    def setUp(self):
+        def stop(number, frame):
+            raise AssertionError("it does not end")
+
+        self.before = signal.signal(signal.SIGALRM, stop)
+        # Stopped once, a test may begin with its next part: this one is stopped sooner.
+        signal.setitimer(signal.ITIMER_REAL, self.SECONDS, 1)
+
+    def tearDown(self):
+        signal.setitimer(signal.ITIMER_REAL, 0)
+        signal.signal(signal.SIGALRM, self.before)
 
 
 class Stranger:
@@ -160,21 +182,86 @@ def see_numbers(case, told, long):
     case.assertEqual([type(number) for number in told], [int] * long)
 
 
+def see_fraction(case, told):
+    """It is a fraction in shortest form; its value as a number to reckon with."""
+    case.assertIs(type(told), tuple)
+    case.assertEqual([type(number) for number in told], [int, int])
+    top, bottom = told
+    case.assertGreaterEqual(bottom, 1)
+    case.assertEqual(gcd(top, bottom), 1)
+    return Fraction(top, bottom)
+
+
+def see_fractions(case, told, long):
+    """It is a list of so many fractions."""
+    case.assertIs(type(told), list)
+    case.assertEqual(len(told), long)
+    return [see_fraction(case, pair) for pair in told]
+
+
+def see_rising(case, told, first, last):
+    """It is a list of tuples of two, the first thing of each a group, the groups rising, each once."""
+    case.assertIs(type(told), list)
+    for pair in told:
+        case.assertIs(type(pair), tuple)
+        case.assertEqual(len(pair), 2)
+        case.assertIs(type(pair[0]), int)
+        case.assertTrue(first <= pair[0] <= last)
+    groups = [pair[0] for pair in told]
+    case.assertEqual(groups, sorted(set(groups)))
+
+
+def see_weighing(case, told, many):
+    """It is a weighing of groups; for each of them its weight, as a number to reckon with."""
+    see_rising(case, told, 1, 2 ** many - 1)
+    weights = {group: see_fraction(case, weight) for group, weight in told}
+    for weight in weights.values():
+        case.assertGreater(weight, 0)
+    for hand in range(many):
+        case.assertEqual(sum(weight for group, weight in weights.items() if hand in members(group, many)), 1)
+    return weights
+
+
+def shares_by_group(shares):
+    """For each group its hands' shares added, the shares being numbers to reckon with."""
+    return [sum((shares[hand] for hand in members(group, len(shares))), Fraction(0))
+            for group in range(2 ** len(shares))]
+
+
+def no_fractions():
+    """Things of many sorts, none of them a fraction."""
+    found = [thing for thing in no_numbers() if not (type(thing) is tuple and len(thing) == 2)]
+    found += [0, 1, -1, (2, 4), (0, 2), (-2, 2), (6, 3), (SIXTY_NINES, SIXTY_NINES), (0, 0), (1, 0), (-1, 0)]
+    found += [(1, -1), (1, -2), (0, -1), (3, -1), [1, 2], [0, 1], (1, 2, 3), (1, 1, 1), "12"]
+    return found + [(thing, 1) for thing in no_numbers()] + [(1, thing) for thing in no_numbers()]
+
+
+def see_own_lists(case, told):
+    """No list within the answer stands in it twice: changing one of them changes none of the others."""
+    lists = []
+    waiting = [told]
+    while waiting:
+        thing = waiting.pop()
+        if isinstance(thing, (list, tuple)):
+            waiting += thing
+        if isinstance(thing, list):
+            lists.append(thing)
+    case.assertEqual(len({id(thing) for thing in lists}), len(lists))
+
+
 def see_apart(case, call, *handed):
     """What is handed in stays, and no list that was handed in or told and is then changed changes an answer."""
     before = deepcopy(handed)
     first = call(*handed)
     wanted = deepcopy(first)
+    see_own_lists(case, first)
     case.assertEqual(frozen(handed), frozen(before))
     second = call(*handed)
-    if isinstance(first, list):
-        spoil(first)
+    spoil_within(first)
     case.assertEqual(frozen(handed), frozen(before))
     case.assertEqual(frozen(second), frozen(wanted))
     case.assertEqual(frozen(call(*handed)), frozen(wanted))
-    for thing in handed:
-        if isinstance(thing, list):
-            spoil(thing)
+    spoil_within(handed)
     case.assertEqual(frozen(second), frozen(wanted))
     case.assertEqual(frozen(call(*before)), frozen(wanted))
 
@@ -184,6 +271,15 @@ def frozen(thing):
     if isinstance(thing, (list, tuple)):
         return (type(thing).__name__, [frozen(within) for within in thing])
     return thing
+
+
+def spoil_within(thing):
+    """All lists within a thing spoiled, itself, too."""
+    if isinstance(thing, (list, tuple)):
+        for within in thing:
+            spoil_within(within)
+    if isinstance(thing, list):
+        spoil(thing)
 
 
 def spoil(told):

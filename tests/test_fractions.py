@@ -1,9 +1,11 @@
 import unittest
 from fractions import Fraction
-from math import gcd
+from math import gcd, lcm
+from random import Random
 
 from helper import Stranger, no_numbers, see_refused
-from shareparley.fractions import fraction, is_fraction, minus, parted, plus, times, under
+from shareparley.fractions import (common_bottom, fraction, is_fraction, minus, parted, plus, times, tops_over,
+                                   under)
 
 SIXTY_NINES = 10 ** 60 - 1
 # The last two share the great divisor 10 ** 29 + 7.
@@ -170,6 +172,20 @@ class TestUnder(unittest.TestCase):
         for one, other in pairs_of_fractions():
             with self.subTest(one=one, other=other):
                 self.assertIs(under(one, other), Fraction(*one) < Fraction(*other))
+
+
+class TestCommonBottom(unittest.TestCase):
+    def test_drawn_lists(self):
+        source = Random(21)
+        self.assertEqual(common_bottom([]), 1)
+        for turn in range(200):
+            chosen = source.sample(some_fractions(), source.randint(1, 6))
+            bottom = common_bottom(chosen)
+            tops = tops_over(bottom, chosen)
+            with self.subTest(chosen=chosen):
+                self.assertEqual(bottom, lcm(*[one[1] for one in chosen]))
+                self.assertEqual([type(top) for top in tops], [int] * len(chosen))
+                self.assertEqual([Fraction(top, bottom) for top in tops], [Fraction(*one) for one in chosen])
 
 
 class TestHandedIn(unittest.TestCase):

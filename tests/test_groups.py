@@ -2,7 +2,7 @@ import unittest
 from itertools import combinations, permutations
 
 from helper import no_numbers, see_refused
-from shareparley.groups import group_of, hands_of, parts_of
+from shareparley.groups import group_of, hands_of, marks_of, parts_of
 
 BEYOND = [-1, -2, -63, -64, 64, 65, 127, 128, 10 ** 60 - 1, -(10 ** 60 - 1)]
 BEYOND_HANDS = [-1, -2, -6, 6, 7, 64, 10 ** 60 - 1, -(10 ** 60 - 1)]
@@ -142,6 +142,14 @@ class TestLists(unittest.TestCase):
         hands.clear()
         self.assertEqual(group_of(hands), 0)
         self.assertEqual(group_of([2, 0]), 5)
+
+    def test_marks(self):
+        for hands, group in lists_of_hands():
+            for many in range(max(hands, default=0) + 1, 7):
+                with self.subTest(group=group, many=many):
+                    told = marks_of(group, many)
+                    self.assertEqual([type(mark) for mark in told], [int] * many)
+                    self.assertEqual(told, [int(hand in hands) for hand in range(many)])
 
 
 if __name__ == "__main__":

@@ -166,6 +166,22 @@ def walk_faults(tree):
                      if name_called(node) in WALKED and node not in on_the_spot]
 
 
+def set_faults(tree):
+    """L24: a set stands beside `in`, == or !=, or straight within sorted or len."""
+    parents = {child: node for node in ast.walk(tree) for child in ast.iter_child_nodes(node)}
+    faults = []
+    for node in ast.walk(tree):
+        if name_called(node) not in ("set", "frozenset") and not isinstance(node, ast.Set):
+            continue
+        around = parents[node]
+        while isinstance(around, ast.BinOp):
+            around = parents[around]
+        within = name_called(around) in ("sorted", "len") and not around.keywords
+        if not within and not isinstance(around, ast.Compare):
+            faults.append(f"L24 row {node.lineno}")
+    return faults
+
+
 def method_faults(trees):
     """L18, L25: the methods that are called are Python's own few or the package's."""
     own = [row.name for tree in trees for node in ast.walk(tree) if isinstance(node, ast.ClassDef)
@@ -182,6 +198,7 @@ def text_faults(text):
     """All faults of one file."""
     tree = ast.parse(text)
     faults = form_faults(text) + name_faults(tree) + top_faults(tree) + shadow_faults(tree) + walk_faults(tree)
+    faults += set_faults(tree)
     for node in ast.walk(tree):
         faults += node_faults(node) + def_faults(node)
     return faults + method_faults([tree])
@@ -260,9 +277,18 @@ class TestTheReading(unittest.TestCase):
                      "def f(x):\n    return f'{x!s}'\n", "class A:\n    pass\n\n\ndef f(A):\n    return A\n",
                      "from shareparley.groups import cut\n\n\ndef f():\n    cut = 1\n    return cut\n",
                      "def f(x):\n    y = zip(x, x)\n    return y\n", "def f(x):\n    return x.items()\n",
-                     "def f(x):\n    return int(x, base=2)\n", "def f(x):\n    return range(3)[x]\n"]:
+                     "def f(x):\n    return int(x, base=2)\n", "def f(x):\n    return range(3)[x]\n",
+                     "def f(x):\n    return sorted(set(x), reverse=True)\n", "def f(x):\n    return max(set(x))\n",
+                     "def f(x):\n    y = set(x)\n    return y\n", "def f(x):\n    return [y for y in {1, x}]\n"]:
             with self.subTest(text=text):
                 self.assertNotEqual(text_faults(text), [])
+
+    def test_what_may_be_is_let_through(self):
+        for text in ["def f(x):\n    return sorted(set(x) - set([1]))\n", "def f(x):\n    return x in {1, 2, 3}\n",
+                     "def f(x):\n    return len(set(x)) == len(x)\n", "def f(x, y):\n    return set(x) == set(y)\n",
+                     "def f(x):\n    return [y for y in reversed(sorted(x))]\n"]:
+            with self.subTest(text=text):
+                self.assertEqual(text_faults(text), [])
 
     def test_a_ring_is_seen(self):
         self.assertTrue(draws_in_a_ring({"a": ["b"], "b": ["c"], "c": ["a"], "d": []}))
